@@ -1,0 +1,83 @@
+"""What several tests need: walks gone step by step, walks to try, and a limit of time."""
+
+import contextlib
+import itertools
+import random
+import signal
+
+MOST = 10 ** 30
+
+# Texts that are none of the four ways.
+NO_WAYS = ["", "E", "N", "W", "S", "en", "nw", "ee", "enws", "east", "x", "0", " ", "e ", " e", "e\n", "~"]
+
+# Numbers of steps that no run has.
+NO_STEPS = [0, -1, -7, -MOST, MOST + 1, 10 ** 59]
+
+
+def word(walk):
+    """The walk's steps, one letter each."""
+    return "".join(way * many for way, many in walk)
+
+
+def runs(letters):
+    """The tidied walk of a word."""
+    return [(way, len(list(group))) for way, group in itertools.groupby(letters)]
+
+
+def small_walks():
+    """Each walk of at most five steps, tidied."""
+    for length in range(6):
+        for letters in itertools.product("enws", repeat=length):
+            yield runs(letters)
+
+
+def chance_walks(many, runs_most=12, steps_most=9, seed=1):
+    """Walks by chance, the same ones each time, neighbouring runs of one way among them."""
+    source = random.Random(seed)
+    for _ in range(many):
+        count = source.randint(0, runs_most)
+        yield [(source.choice("enws"), source.randint(1, steps_most)) for _ in range(count)]
+
+
+def chance_tallies(many, figures, seed=1):
+    """Tallies by chance, of either sign, also such as no walk has."""
+    source = random.Random(seed)
+    most = 10 ** figures
+    for _ in range(many):
+        yield tuple(source.randint(-most, most) for _ in range(5))
+
+
+def gone(walk):
+    """The tally, gone step by step as point 5 says it."""
+    x = y = land = lean = lift = 0
+    for letter in word(walk):
+        if letter == "e":
+            x += 1
+        elif letter == "w":
+            x -= 1
+        elif letter == "n":
+            land += x
+            lean += x * x
+            lift += x * (2 * y + 1)
+            y += 1
+        else:
+            y -= 1
+            land -= x
+            lean -= x * x
+            lift -= x * (2 * y + 1)
+    return (x, y, land, lean, lift)
+
+
+@contextlib.contextmanager
+def soon(seconds=10):
+    """Fail where what stands within takes longer."""
+    def late(number, frame):
+        raise AssertionError(f"not told within {seconds} seconds")
+
+    before = signal.signal(signal.SIGALRM, late)
+    signal.alarm(seconds)
+    try:
+        yield
+    finally:
+        signal.alarm(0)
+        signal.signal(signal.SIGALRM, before)
