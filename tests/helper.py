@@ -24,6 +24,30 @@ def runs(letters):
     return [(way, len(list(group))) for way, group in itertools.groupby(letters)]
 
 
+def come_to(letters):
+    """The point and the land of a word."""
+    return letters_gone(letters)[:3]
+
+
+def words(length, letters="ensw"):
+    """Each word of so many letters, in the order of these."""
+    return ["".join(signs) for signs in itertools.product(letters, repeat=length)]
+
+
+def chance_words(many, length, seed=1):
+    """Words by chance, the same ones each time."""
+    source = random.Random(seed)
+    return ["".join(source.choice("enws") for _ in range(length)) for _ in range(many)]
+
+
+def by_goal(letters):
+    """The words in groups of one point and one land, as a dict by (x, y, land)."""
+    groups = {}
+    for word_here in letters:
+        groups.setdefault(come_to(word_here), []).append(word_here)
+    return groups
+
+
 def small_walks():
     """Each walk of at most five steps, tidied."""
     for length in range(6):
@@ -48,9 +72,14 @@ def chance_tallies(many, figures, seed=1):
 
 
 def gone(walk):
-    """The tally, gone step by step as point 5 says it."""
+    """The tally of a walk, gone step by step."""
+    return letters_gone(word(walk))
+
+
+def letters_gone(letters):
+    """The tally of a word, gone step by step as point 5 says it."""
     x = y = land = lean = lift = 0
-    for letter in word(walk):
+    for letter in letters:
         if letter == "e":
             x += 1
         elif letter == "w":

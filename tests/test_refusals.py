@@ -6,6 +6,7 @@ from helper import MOST, NO_STEPS, NO_WAYS
 from oxhide.errors import BadNumber, BadRun, TooLong
 from oxhide.runs import about, look_walk, mirrored, parted, steps, tidied, times, turned
 from oxhide.tallies import parts, tally
+from oxhide.words import walk_word
 
 GOOD = ("e", 1)
 BAD = ("x", 1)
@@ -29,6 +30,7 @@ TAKERS = {
     "parts, first": lambda walk: parts(walk, []),
     "parts, second": lambda walk: parts([], walk),
     "parts, both": lambda walk: parts(walk, walk),
+    "walk_word": walk_word,
 }
 
 
@@ -50,6 +52,9 @@ class RefusalsTest(unittest.TestCase):
                     call(walk)
                 except BadNumber:
                     pass
+                except TooLong:
+                    # A good walk, but one of more steps than a word has letters.
+                    self.assertEqual(name, "walk_word")
 
     def test_more_than_200_runs_are_too_long(self):
         for name, call in TAKERS.items():
