@@ -97,6 +97,39 @@ def letters_gone(letters):
     return (x, y, land, lean, lift)
 
 
+def points(letters):
+    """The points to which a word comes, one for each step and the beginning ahead."""
+    return [come_to(letters[:many])[:2] for many in range(len(letters) + 1)]
+
+
+def rounds_gone(letters):
+    """The rounds of a hedge about each field, those of nought left out, gone step by step.
+
+    Looked at from the field southward, not eastward as point 14 says it: steps east past it below it, less steps west.
+    """
+    gone_to = points(letters)
+    low = min(y for x, y in gone_to)
+    high = max(y for x, y in gone_to)
+    told = {}
+    for (x, y), (u, v) in zip(gone_to, gone_to[1:]):
+        if u != x:
+            for row in range(y, high):
+                field = (min(x, u), row)
+                told[field] = told.get(field, 0) + u - x
+    assert all(low <= row < high for column, row in told)
+    return {field: many for field, many in told.items() if many != 0}
+
+
+def chance_hedges(many, steps_most, seed=1):
+    """Words that come home, by chance, the same ones each time."""
+    source = random.Random(seed)
+    for _ in range(many):
+        pairs = source.randint(0, steps_most // 2)
+        letters = list("".join(source.choice(["ew", "ns"]) for _ in range(pairs)))
+        source.shuffle(letters)
+        yield "".join(letters)
+
+
 @contextlib.contextmanager
 def soon(seconds=10):
     """Fail where what stands within takes longer."""

@@ -3,7 +3,9 @@
 import unittest
 
 from helper import MOST, NO_STEPS, NO_WAYS
-from oxhide.errors import BadNumber, BadRun, TooLong
+from oxhide.errors import BadNumber, BadRun, NotHome, NotMet, TooLong
+from oxhide.hedges import fields, inner, is_plain, rounds
+from oxhide.roads import between, fields_between
 from oxhide.runs import about, look_walk, mirrored, parted, steps, tidied, times, turned
 from oxhide.tallies import parts, tally
 from oxhide.words import walk_word
@@ -31,7 +33,20 @@ TAKERS = {
     "parts, second": lambda walk: parts([], walk),
     "parts, both": lambda walk: parts(walk, walk),
     "walk_word": walk_word,
+    "rounds": lambda walk: rounds(walk, 0, 0),
+    "fields": fields,
+    "is_plain": is_plain,
+    "inner": inner,
+    "between, first": lambda walk: between(walk, []),
+    "between, second": lambda walk: between([], walk),
+    "between, both": lambda walk: between(walk, walk),
+    "fields_between, first": lambda walk: fields_between(walk, []),
+    "fields_between, second": lambda walk: fields_between([], walk),
+    "fields_between, both": lambda walk: fields_between(walk, walk),
 }
+
+# Those that take two walks.
+PAIR_TAKERS = {"parts": parts, "between": between, "fields_between": fields_between}
 
 
 class RefusalsTest(unittest.TestCase):
@@ -50,11 +65,11 @@ class RefusalsTest(unittest.TestCase):
             with self.subTest(name):
                 try:
                     call(walk)
-                except BadNumber:
+                except (BadNumber, NotHome, NotMet):
                     pass
                 except TooLong:
-                    # A good walk, but one of more steps than a word has letters.
-                    self.assertEqual(name, "walk_word")
+                    # A good walk, but one of more steps than a word has letters, or two roads are bound to.
+                    self.assertIn(name, ("walk_word", "fields_between, both"))
 
     def test_more_than_200_runs_are_too_long(self):
         for name, call in TAKERS.items():
@@ -95,13 +110,16 @@ class RefusalsTest(unittest.TestCase):
                     self.assertEqual(self.refused_at(call, walk), at)
 
     def test_of_two_walks_the_first_one_goes_whole_ahead(self):
-        self.assertEqual(self.refused_at(parts, [GOOD, GOOD, BAD], [BAD]), 2)
-        self.assertEqual(self.refused_at(parts, [GOOD, BAD], [GOOD] * 201), 1)
-        with self.assertRaises(TooLong):
-            parts([GOOD] * 201, [BAD])
-        self.assertEqual(self.refused_at(parts, [("n", 5)], [GOOD, BAD]), 1)
-        with self.assertRaises(TooLong):
-            parts([("n", 5)], [BAD] * 201)
+        for name, call in PAIR_TAKERS.items():
+            with self.subTest(name):
+                self.assertEqual(self.refused_at(call, [GOOD, GOOD, BAD], [BAD]), 2)
+                self.assertEqual(self.refused_at(call, [GOOD, BAD], [GOOD] * 201), 1)
+                with self.assertRaises(TooLong):
+                    call([GOOD] * 201, [BAD])
+                self.assertEqual(self.refused_at(call, [("n", 5)], [GOOD, BAD]), 1)
+                self.assertEqual(self.refused_at(call, [("n", 500)], [GOOD, BAD]), 1)
+                with self.assertRaises(TooLong):
+                    call([("n", 5)], [BAD] * 201)
 
     def test_what_is_refused_changes_nothing(self):
         for name, call in TAKERS.items():

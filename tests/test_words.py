@@ -5,6 +5,7 @@ import unittest
 from helper import MOST, chance_words, runs, soon, word, words
 from oxhide.errors import BadRun, BadWord, TooLong
 from oxhide.moves import bridge, moved
+from oxhide.straight import straight_number
 from oxhide.ways import number_of
 from oxhide.words import look_word, walk_word, word_walk
 
@@ -22,6 +23,7 @@ TAKERS = {
     "bridge, second behind a long one": lambda letters: bridge("e" * 60, letters),
     "bridge, both": lambda letters: bridge(letters, letters),
     "number_of": number_of,
+    "straight_number": straight_number,
 }
 
 
