@@ -39,22 +39,37 @@ def tidied(walk):
     return put_together(walk)
 
 
+def backward(walk):
+    """The walk about, without looking at it."""
+    return [(CONTRARY[way], many) for way, many in reversed(walk)]
+
+
+def leftward(walk):
+    """The walk turned, without looking at it."""
+    return [(LEFT[way], many) for way, many in walk]
+
+
+def flipside(walk):
+    """The walk mirrored, without looking at it."""
+    return [(MIRROR[way], many) for way, many in walk]
+
+
 def about(walk):
     """The contrary steps in contrary order."""
     look_walk(walk)
-    return put_together([(CONTRARY[way], many) for way, many in reversed(walk)])
+    return put_together(backward(walk))
 
 
 def turned(walk):
     """Each step a quarter to the left."""
     look_walk(walk)
-    return put_together([(LEFT[way], many) for way, many in walk])
+    return put_together(leftward(walk))
 
 
 def mirrored(walk):
     """East and west exchanged."""
     look_walk(walk)
-    return put_together([(MIRROR[way], many) for way, many in walk])
+    return put_together(flipside(walk))
 
 
 def times(walk, many):

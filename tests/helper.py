@@ -1,9 +1,11 @@
-"""What several tests need: walks gone step by step, walks to try, and a limit of time."""
+"""What several tests need: walks gone step by step, walks to try, offices with deeds done, and a limit of time."""
 
 import contextlib
 import itertools
 import random
 import signal
+
+from oxhide.office import Office
 
 MOST = 10 ** 30
 
@@ -12,6 +14,26 @@ NO_WAYS = ["", "E", "N", "W", "S", "en", "nw", "ee", "enws", "east", "x", "0", "
 
 # Numbers of steps that no run has.
 NO_STEPS = [0, -1, -7, -MOST, MOST + 1, 10 ** 59]
+
+# Texts that are no numbers as they are written.
+NO_NUMBERS = [
+    "", "-", "+1", "-0", "00", "01", "007", "-01", "--1", "1-", "1.0", "1,000", "1_000", "0x1", "1e3", "x", "one",
+    "1\n", "\n1", "1" * 61, "-" + "1" * 61, "0" * 60, "1" + "0" * 60, "- 1",
+]
+
+# Texts that are no deeds.
+NO_DEEDS = [
+    "", " ", "\n", "ox", "begin", "begin ", " begin ox", "begin ox ", "begin  ox", "begin ox\n", "begin Ox",
+    "begin ox cow", "begin abcdefghi", "begin 1", "begin o1", "Begin ox", "BEGIN ox", "beginox", "begin\nox",
+    "start ox", "shut", "shut OX", "shut ox ox", "go", "go ox", "go ox e", "go ox 3", "go ox e3", "go ox 3 e",
+    "go ox E 3", "go ox x 3", "go ox en 3", "go ox  3", "go ox e 3 4", "go ox e 3 n 4", "go e 3", "go Ox e 3", "turn",
+    "turn ox 1", "turn ox ox", "mirror", "mirror ox e", "about", "about ox 2", "times", "times ox", "times 2 ox",
+    "times ox e", "times ox 2 2", "join", "join ox", "join ox cow calf", "join ox 2", "join ox Cow", "join Ox cow",
+    "tie ox", "tie ox cow 1", "tie 1 ox", "tie ox ", "late ox 3 s", "late ox s 4", "late ox s 3 4", "late ox 3 x 4",
+    "late ox 3 4 s", "late ox 3 s 4 5", "late 3 ox s 4", "strike", "strike ox", "strike ox e", "strike ox 1 2",
+    "undo", "redo", "names", "tally ox", "walk ox", "none", "done", "begin ox\nbegin cow", "put 0 e", "twin",
+    "log ox",
+]
 
 
 def word(walk):
@@ -128,6 +150,26 @@ def chance_hedges(many, steps_most, seed=1):
         letters = list("".join(source.choice(["ew", "ns"]) for _ in range(pairs)))
         source.shuffle(letters)
         yield "".join(letters)
+
+
+def office_with(*lines):
+    """An office that has done these deeds, each one written."""
+    office = Office()
+    for line in lines:
+        do_line(office, line)
+    return office
+
+
+def do_line(office, line):
+    """Do a deed that is written with blanks between."""
+    deed, *things = line.split()
+    getattr(office, deed)(*(int(thing) if thing.lstrip("-").isdigit() else thing for thing in things))
+
+
+def stands(office):
+    """All that an office tells of itself, its walks left out."""
+    logs = [(name, office.log(name), office.hangs(name)) for name in office.names()]
+    return (logs, office.deeds(), office.undone())
 
 
 @contextlib.contextmanager

@@ -5,6 +5,7 @@ import unittest
 from helper import MOST, NO_STEPS, NO_WAYS
 from oxhide.errors import BadNumber, BadRun, NotHome, NotMet, TooLong
 from oxhide.hedges import fields, inner, is_plain, rounds
+from oxhide.pages import walk_text
 from oxhide.roads import between, fields_between
 from oxhide.runs import about, look_walk, mirrored, parted, steps, tidied, times, turned
 from oxhide.tallies import parts, tally
@@ -33,6 +34,7 @@ TAKERS = {
     "parts, second": lambda walk: parts([], walk),
     "parts, both": lambda walk: parts(walk, walk),
     "walk_word": walk_word,
+    "walk_text": walk_text,
     "rounds": lambda walk: rounds(walk, 0, 0),
     "fields": fields,
     "is_plain": is_plain,

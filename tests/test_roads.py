@@ -99,7 +99,8 @@ class FieldsBetweenTest(unittest.TestCase):
     def test_roads_by_chance(self):
         for one, other in chance_roads(100, 100, seed=2):
             told = fields_between(runs(one), runs(other))
-            self.assertEqual(told, sorted((*field, many) for field, many in rounds_gone(hedge_word(one, other)).items()))
+            gone_round = rounds_gone(hedge_word(one, other))
+            self.assertEqual(told, sorted((*field, many) for field, many in gone_round.items()))
             self.assertEqual(sum(many for column, row, many in told), between(runs(one), runs(other)))
             self.assertIs(type(told), list)
             self.assertTrue(all(type(field) is tuple for field in told))
