@@ -81,25 +81,32 @@ def steps_behind(told, entry, tied):
 
 def walk_behind(told, entry, tied):
     """The walk behind an entry, tidied, or TooLong; tied is that of the walker tied in."""
-    walk = put_together(untidied_behind(told, entry, tied))
+    walk = unbound_behind(told, entry, tied)
     if len(walk) > MOST_RUNS:
         raise TooLong()
     return walk
 
 
-def untidied_behind(told, entry, tied):
-    """The walk behind an entry as its runs come."""
+def unbound_behind(told, entry, tied):
+    """The walk behind an entry, tidied, however many runs it has."""
     word = entry[0]
     if word == "go":
-        return told + [entry[1:]]
+        return put_behind(told, [entry[1:]])
     if word == "join":
-        return told + list(entry[1])
+        return put_behind(told, list(entry[1]))
     if word == "tie":
-        return told + tied
+        return put_behind(told, tied)
+    # These three leave a tidied walk tidied.
     if word == "turn":
         return leftward(told)
     if word == "mirror":
         return flipside(told)
     if word == "about":
         return backward(told)
-    return told * entry[1]
+    return put_together(told * entry[1])
+
+
+def put_behind(walk, more):
+    """A tidied walk with another one behind it, tidied."""
+    # Only where they meet may two runs go one way, so no others are looked at: this is done very often.
+    return walk[:-1] + put_together(walk[-1:] + more[:1]) + more[1:]
